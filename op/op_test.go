@@ -431,12 +431,9 @@ func TestGetCut(t *testing.T) {
 	refused(t, "an empty list", []byte{})
 	for name, r := range mayBe() {
 		b := plain(r)
-		// The longest one is cut at fewer places: each takes as long as it is.
-		step := 1 + len(b)/2000
-		for n := 0; n < len(b); n += step {
+		for n := range b {
 			refused(t, name+", cut", b[:n])
 		}
-		refused(t, name+", without the last", b[:len(b)-1])
 		refused(t, name+", without the first", b[1:])
 		for _, more := range [][]byte{{0}, {255}, make([]byte, 8), b, plain(asked(create("/z")))[24:]} {
 			refused(t, name+", more behind", slices.Concat(b, more))
