@@ -152,12 +152,7 @@ func (m *model) do(o api.Op, sess, zxid int64) api.Result {
 		if len(n.Names) > 0 {
 			return api.Result{Err: api.EKIDS}
 		}
-		delete(m.nodes, o.Path)
-		if up, ok := m.nodes[parent(o.Path)]; ok && slices.Contains(up.Names, name(o.Path)) {
-			up.Names = slices.DeleteFunc(slices.Clone(up.Names), func(s string) bool { return s == name(o.Path) })
-			up.Kids, up.Count = more(up.Kids), len(up.Names)
-			m.nodes[parent(o.Path)] = up
-		}
+		m.drop(o.Path)
 		return api.Result{Path: o.Path}
 	case api.Set:
 		n.Data, n.Changed, n.Version, n.Length = o.Data, zxid, more(n.Version), len(o.Data)
@@ -171,6 +166,16 @@ func (m *model) do(o api.Op, sess, zxid int64) api.Result {
 		return api.Result{Path: o.Path, Stat: n.Stat}
 	}
 	return api.Result{Path: o.Path, Names: n.Names, Stat: n.Stat}
+}
+
+// drop takes a node away that is there, and its Name from its Parent.
+func (m *model) drop(p string) {
+	delete(m.nodes, p)
+	if up, ok := m.nodes[parent(p)]; ok && slices.Contains(up.Names, name(p)) {
+		up.Names = slices.DeleteFunc(slices.Clone(up.Names), func(s string) bool { return s == name(p) })
+		up.Kids, up.Count = more(up.Kids), len(up.Names)
+		m.nodes[parent(p)] = up
+	}
 }
 
 func (m *model) create(o api.Op, sess, zxid int64) api.Result {
@@ -290,6 +295,22 @@ func (b *both) load(p string, n stat.Node) api.Errno {
 		b.t.Fatalf("Load(%s): the tree is\n%s, want\n%s", p, s, b.m.state())
 	}
 	return e
+}
+
+// drop takes a node away, if it is there.
+func (b *both) drop(p string) bool {
+	b.t.Helper()
+	ok := b.x.Drop(p)
+	if _, there := b.m.nodes[p]; ok != there {
+		b.t.Fatalf("Drop(%.60s): %v, want %v", p, ok, there)
+	}
+	if ok {
+		b.m.drop(p)
+	}
+	if s := state(b.x); s != b.m.state() {
+		b.t.Fatalf("Drop(%.60s): the tree is\n%s, want\n%s", p, s, b.m.state())
+	}
+	return ok
 }
 
 // has lays nodes in, one behind the other.

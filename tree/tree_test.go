@@ -813,6 +813,44 @@ func TestLoadList(t *testing.T) {
 	}
 }
 
+// Drop, by which chapter 12's Purge takes nodes away: they go, and their Names; what is under them, and all others, stay.
+func TestDrop(t *testing.T) {
+	for _, p := range busy(t).x.Paths() {
+		b := busy(t)
+		if !b.drop(p) || left(b.x) != busyLeft+1 || b.drop(p) {
+			t.Errorf("Drop(%s): room for %d", p, left(b.x))
+		}
+		b.do(create(p, "", 0), 1, 60) // it can be made again, as a new one
+	}
+	b := pair(t, 9).has("/a", whole()).has("/a/b", whole()).has("/a/b/d", leaf()).has("/a/x", whole()).has("/a/none/f", owned(7))
+	for i, c := range []struct {
+		p string
+		w string
+	}{{"/a/b", "d f"}, {"/a/b/d", "d f"}, {"/a/x", "d f"}, {"/a/none/f", "d f"}} {
+		if !b.drop(c.p) || b.x.Len() != 4-i {
+			t.Errorf("Drop(%s): %d nodes", c.p, b.x.Len())
+		}
+		w := whole()
+		w.Names = strings.Fields(c.w)
+		w.Kids, w.Count = 15, len(w.Names)
+		wantNode(t, b.x, "/a", w)
+	}
+	if !b.drop("/a") || b.x.Len() != 0 {
+		t.Errorf("%d nodes", b.x.Len())
+	}
+}
+
+// Drop where there is none: false, and nothing changes, not even a Name without a node.
+func TestDropOfNone(t *testing.T) {
+	b := busy(t)
+	before := state(b.x)
+	for _, p := range []string{"", "/", "a", "/a/", "//a", "/q", "/A", "/un", "/laid/b", "/laid/d", "/a/q", "/a/k/deep", "/neg/x", "/a\x00", fill(1 << 16)} {
+		if b.drop(p) || state(b.x) != before || left(b.x) != busyLeft {
+			t.Errorf("Drop(%.20q)", p)
+		}
+	}
+}
+
 // P11.2: Node: one that is there, and such as are not.
 func TestNode(t *testing.T) {
 	b := busy(t)
@@ -897,6 +935,7 @@ var changes = map[string]func(b *both){
 	"Set of one laid":     func(b *both) { b.do(set("/laid", "other", -1), 1, 50) },
 	"Load":                func(b *both) { b.load("/q", whole()) },
 	"Load under a node":   func(b *both) { b.load("/a/q", owned(7)) },
+	"Drop":                func(b *both) { b.drop("/a/k") },
 }
 
 // P11.2: Copy: the same, room and all; whatever is done to one, the other stays.
@@ -1064,6 +1103,8 @@ func TestLongRuns(t *testing.T) {
 				list = append(list, b.copy())
 			case k < 3:
 				b.load(anyPath(luck), anyNode(luck))
+			case k == 3:
+				b.drop(anyPath(luck))
 			default:
 				met[b.do(anyOp(luck), int64(luck.Intn(25)), int64(i-luck.Intn(5))).Err]++
 			}
